@@ -1,0 +1,1 @@
+"""Plugtree: a serial bus of hubs and things, both sides of it."""

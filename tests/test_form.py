@@ -1,0 +1,172 @@
+"""The form of the program: the names of its interface, and what can be seen of the language's rules.
+
+The rules themselves are in ../shared/LANGUAGE.md; this test holds only those that are plain to see.
+"""
+
+import ast
+import builtins
+import importlib
+import inspect
+import pathlib
+import re
+
+from tests.base import Case
+
+FOLDER = pathlib.Path(__file__).resolve().parent.parent / "plugtree"
+FILES = sorted(FOLDER.glob("*.py"))
+
+# What the interface lists, file by file: the parameters of functions, None for classes.
+INTERFACE = {
+    "errors": dict.fromkeys((
+        "BusError", "BadNumber", "BadPacket", "BadPlan", "BadRequest", "BadName", "Taken", "TooDeep", "Full",
+        "NoRoom", "Halted", "Missing", "NoThing", "NoEnd", "NoPort", "NoTransfer",
+    )),
+    "bits": {
+        "bits_of": ["number", "many"], "number_of": ["row"], "sum5": ["number"], "sum16": ["data"],
+        "turned_about": ["number", "many"],
+    },
+    "packets": {"packet_bytes": ["packet"], "read_packet": ["row"]},
+}
+
+# L8.
+BUILTINS = set((
+    "len range enumerate zip min max sum abs sorted reversed int str bool bytes list tuple dict set frozenset"
+    " isinstance ord repr any all divmod pow getattr hasattr setattr iter next map super property staticmethod"
+    " classmethod object Exception ValueError TypeError KeyError IndexError LookupError ZeroDivisionError"
+    " ArithmeticError OverflowError RuntimeError NotImplementedError AttributeError StopIteration NotImplemented"
+).split())
+
+# L7 (bytes, for the present), L17.
+BARRED = set("bytes to_bytes fromhex bytearray memoryview register mro elements open input law with_traceback".split())
+WORDS = re.compile(
+    r"\b(type|typing|typing_extensions|enum|Enum|IntEnum|StrEnum|Flag|IntFlag|Generic|Protocol|ABC|ABCMeta"
+    r"|namedtuple|NamedTuple|TypedDict|TYPE_CHECKING|abstractmethod)\b|dataclass|overload|contextmanager"
+)
+
+NOT_ALLOWED = (
+    ast.Global, ast.AsyncFunctionDef, ast.AsyncFor, ast.AsyncWith, ast.Await, ast.Import, ast.ImportFrom, ast.Div,
+)
+
+
+def tree_of(file):
+    return ast.parse(file.read_text("utf-8"))
+
+
+def is_docstring(node):
+    return isinstance(node, ast.Expr) and isinstance(node.value, ast.Constant) and isinstance(node.value.value, str)
+
+
+def names_of(node):
+    """The names that a piece of code gives or reads."""
+    if isinstance(node, ast.Name):
+        return [node.id]
+    if isinstance(node, ast.Attribute):
+        return [node.attr]
+    if isinstance(node, (ast.arg, ast.keyword)):
+        return [node.arg]
+    if isinstance(node, (ast.FunctionDef, ast.ClassDef)):
+        return [node.name]
+    return []
+
+
+class Interface(Case):
+    def test_names_and_arguments(self):
+        for module, listed in INTERFACE.items():
+            there = importlib.import_module("plugtree." + module)
+            for name, arguments in listed.items():
+                what = getattr(there, name)
+                self.assertEqual("plugtree." + module, what.__module__)
+                if arguments is None:
+                    self.assertTrue(inspect.isclass(what), name)
+                else:
+                    found = inspect.signature(what).parameters.values()
+                    self.assertEqual(arguments, [one.name for one in found])
+                    self.assertEqual({inspect.Parameter.POSITIONAL_OR_KEYWORD}, {one.kind for one in found})
+
+    def test_each_is_defined_in_its_file(self):
+        for module, listed in INTERFACE.items():
+            defined = [node.name for node in tree_of(FOLDER / (module + ".py")).body
+                       if isinstance(node, (ast.FunctionDef, ast.ClassDef))]
+            for name in listed:
+                self.assertEqual(1, defined.count(name), name)
+
+
+class Rules(Case):
+    def test_the_folder_holds_nothing_but_files_of_the_program(self):
+        names = [path.name for path in FOLDER.iterdir() if path.name != "__pycache__"]
+        self.assertIn("__init__.py", names)
+        for name in names:
+            self.assertRegex(name, r"\A(__init__|[a-z][a-z0-9_]*)\.py\Z")
+
+    def test_characters_and_sizes(self):
+        for file in FILES:
+            text = file.read_text("utf-8")
+            lines = text.split("\n")
+            self.assertEqual([], [one for one in text if not (" " <= one <= "~" or one == "\n")], file)
+            self.assertLessEqual(len(lines), 400, file)
+            self.assertEqual([], [line for line in lines if len(line) > 120], file)
+            for node in ast.walk(tree_of(file)):
+                if isinstance(node, ast.FunctionDef):
+                    self.assertLessEqual(node.end_lineno - node.lineno + 1, 40, (file, node.name))
+
+    def test_module_level(self):
+        allowed = (ast.FunctionDef, ast.ClassDef, ast.ImportFrom, ast.Assign)
+        for file in FILES:
+            bound = []
+            for node in tree_of(file).body:
+                self.assertTrue(is_docstring(node) or isinstance(node, allowed), (file, node.lineno))
+                if isinstance(node, ast.Assign):
+                    bound += [target.id for target in node.targets]
+                elif isinstance(node, ast.ImportFrom):
+                    bound += [one.asname or one.name for one in node.names]
+                elif not is_docstring(node):
+                    bound.append(node.name)
+            self.assertEqual(len(set(bound)), len(bound), file)
+
+    def test_imports(self):
+        outside = ("heapq", "math", "itertools", "collections")
+        for file in FILES:
+            for node in tree_of(file).body:
+                if isinstance(node, ast.ImportFrom):
+                    self.assertEqual(0, node.level, file)
+                    self.assertTrue(node.module.startswith("plugtree.") or node.module in outside, file)
+                    if node.module.startswith("plugtree."):
+                        source = FOLDER / (node.module.split(".")[1] + ".py")
+                        top = [one for part in tree_of(source).body for one in names_of(part)]
+                        top += [one.id for part in tree_of(source).body if isinstance(part, ast.Assign)
+                                for one in part.targets]
+                        self.assertEqual([], [one.name for one in node.names if one.name not in top], file)
+
+    def test_statements(self):
+        for file in FILES:
+            tree = tree_of(file)
+            for node in ast.walk(tree):
+                if node not in tree.body:
+                    self.assertNotIsInstance(node, NOT_ALLOWED, (file, getattr(node, "lineno", 0)))
+                if isinstance(node, ast.Raise) and node.exc is not None:
+                    self.assertIsInstance(node.exc, ast.Call, (file, node.lineno))
+
+    def test_names(self):
+        theirs = set(dir(builtins))
+        for file in FILES:
+            for node in ast.walk(tree_of(file)):
+                for name in names_of(node):
+                    self.assertNotIn(name, BARRED, file)
+                    if isinstance(node, ast.Name) and name in theirs:
+                        self.assertIn(name, BUILTINS, file)
+                        self.assertIsInstance(node.ctx, ast.Load, file)
+                    if isinstance(node, ast.arg):
+                        self.assertNotIn(name, theirs, file)
+
+    def test_strings_and_words(self):
+        for file in FILES:
+            tree = tree_of(file)
+            told = [node.body[0].value for node in ast.walk(tree)
+                    if isinstance(node, (ast.Module, ast.ClassDef, ast.FunctionDef)) and is_docstring(node.body[0])]
+            for node in ast.walk(tree):
+                if isinstance(node, ast.Constant) and isinstance(node.value, str):
+                    self.assertNotIn("%", node.value, file)
+                    if node not in told:
+                        self.assertIsNone(WORDS.search(node.value), file)
+                for name in names_of(node):
+                    self.assertIsNone(WORDS.search(name), file)
