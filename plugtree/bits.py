@@ -39,6 +39,11 @@ def number_of(row):
     return number
 
 
+def two_bytes(number):
+    """The two bytes of sixteen bits, the low one first."""
+    return (number & 255, number >> 8)
+
+
 def turned_about(number, many):
     """The number whose so many bits stand the other way about."""
     return number_of(bits_of(number, many)[::-1])

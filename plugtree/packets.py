@@ -1,6 +1,6 @@
 """Packets, and the bytes that they are on the wire."""
 
-from plugtree.bits import are_bytes, is_number, sum5, sum16, turned_about
+from plugtree.bits import are_bytes, is_number, sum5, sum16, turned_about, two_bytes
 from plugtree.errors import BadPacket
 
 TOKENS = ("out", "in", "setup")
@@ -42,11 +42,6 @@ def is_answer(packet):
 def first_byte(code):
     """The byte with which packets of a code begin."""
     return code + 16 * (15 - code)
-
-
-def two_bytes(number):
-    """The two bytes of sixteen bits, the low one first."""
-    return (number & 255, number >> 8)
 
 
 def short_bytes(code, number):

@@ -40,3 +40,8 @@ def said_bits(number, many):
 
 def said_sum16(data):
     return said_sum([bit for byte in data for bit in said_bits(byte, 8)], 16, 32773)
+
+
+def replaced(row, place, value):
+    """A row or a tuple of parts of which one is another value."""
+    return row[:place] + (value,) + row[place + 1:]

@@ -2,7 +2,7 @@
 
 import random
 
-from plugtree.bits import bits_of, number_of, sum5, sum16, turned_about
+from plugtree.bits import bits_of, number_of, sum5, sum16, turned_about, two_bytes
 from plugtree.errors import BadNumber
 from tests.base import SIXTY, Case, said_bits, said_sum, said_sum16
 
@@ -106,6 +106,12 @@ class TurnedAbout(Case):
     def test_refusals(self):
         for number, many in ((-1, 0), (-1, 8), (-SIXTY, 64), (0, -1), (5, 65), (5, SIXTY), (5, -SIXTY), (-1, 65)):
             self.refuses(BadNumber, turned_about, number, many)
+
+
+class TwoBytes(Case):
+    def test_the_low_one_stands_first(self):
+        for number in range(65536):
+            self.assertEqual(tuple(number.to_bytes(2, "little")), two_bytes(number))
 
 
 class Sum5(Case):

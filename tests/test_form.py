@@ -26,6 +26,14 @@ INTERFACE = {
         "turned_about": ["number", "many"],
     },
     "packets": {"packet_bytes": ["packet"], "read_packet": ["row"]},
+    "plans": {
+        "need_plan": ["plan"], "device_row": ["plan"], "settings_row": ["plan"], "read_plan": ["device", "settings"],
+    },
+    "requests": {"request_bytes": ["request"], "read_request": ["row"], "asks": ["request"]},
+    "halves": {
+        "out_half": [], "in_half": [], "cut": ["data", "size"], "heard": ["half", "mark", "data"], "asked": ["half"],
+        "went": ["half"], "cleared": ["half"],
+    },
 }
 
 # L8.
@@ -81,7 +89,7 @@ class Interface(Case):
                 else:
                     found = inspect.signature(what).parameters.values()
                     self.assertEqual(arguments, [one.name for one in found])
-                    self.assertEqual({inspect.Parameter.POSITIONAL_OR_KEYWORD}, {one.kind for one in found})
+                    self.assertLessEqual({one.kind for one in found}, {inspect.Parameter.POSITIONAL_OR_KEYWORD})
 
     def test_each_is_defined_in_its_file(self):
         for module, listed in INTERFACE.items():
