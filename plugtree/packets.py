@@ -39,6 +39,11 @@ def is_answer(packet):
     return len(packet) == 1 and packet[0] in ANSWERS
 
 
+def is_packet(packet):
+    """Whether a tuple is a packet."""
+    return is_token(packet) or is_frame(packet) or is_data(packet) or is_answer(packet)
+
+
 def first_byte(code):
     """The byte with which packets of a code begin."""
     return code + 16 * (15 - code)

@@ -71,11 +71,22 @@ def device_row(plan):
     return (DEVICE_LENGTH, 1, 16, 1, hub, 0, 0, 8) + two_bytes(maker) + two_bytes(model) + (0, 1, ports, 0, 0, 1)
 
 
+def address_of(number, way):
+    """The byte that tells an endpoint's number and way."""
+    return number + IN_MARK if way == "in" else number
+
+
+def place_of(address):
+    """The number and the way that a byte tells."""
+    if address >= IN_MARK:
+        return (address - IN_MARK, "in")
+    return (address, "out")
+
+
 def end_row(end):
     """The part of a settings row that tells one endpoint."""
     number, way, kind, size, every = end
-    address = number + IN_MARK if way == "in" else number
-    return (END_LENGTH, 5, address, KIND_BYTES[kind]) + two_bytes(size) + (every,)
+    return (END_LENGTH, 5, address_of(number, way), KIND_BYTES[kind]) + two_bytes(size) + (every,)
 
 
 def settings_row(plan):
@@ -96,11 +107,8 @@ def number_at(row, place):
 
 def end_at(settings, start):
     """The endpoint, good or not, that stands in a settings row from a place on."""
-    address = settings[start + 2]
-    way = "in" if address >= IN_MARK else "out"
-    number = address - IN_MARK if way == "in" else address
     kind = "timed" if settings[start + 3] == KIND_BYTES["timed"] else "bulk"
-    return (number, way, kind, number_at(settings, start + 4), settings[start + 6])
+    return place_of(settings[start + 2]) + (kind, number_at(settings, start + 4), settings[start + 6])
 
 
 def standing_plan(device, settings):

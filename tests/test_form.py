@@ -34,6 +34,30 @@ INTERFACE = {
         "out_half": [], "in_half": [], "cut": ["data", "size"], "heard": ["half", "mark", "data"], "asked": ["half"],
         "went": ["half"], "cleared": ["half"],
     },
+    "things": {"Thing": None},
+    "room": {
+        "cost": ["size"], "bare_table": [], "phase_for": ["table", "size", "every"],
+        "with_end": ["table", "size", "every", "phase", "sign=1"], "let_in": ["table", "ends"],
+    },
+    "journal": {"first_wrong": ["rows"]},
+    "bus": {"Bus": None},
+}
+# The methods that the interface lists for a class, with what they take.
+METHODS = {
+    ("things", "Thing"): {
+        "__init__": ["plan"], "restart": [], "hear_setup": ["data"], "hear_in": ["endpoint"], "hear_went": ["endpoint"],
+        "hear_out": ["endpoint", "mark", "data"], "half": ["endpoint", "way"], "load": ["endpoint", "data"],
+        "let": ["endpoint", "many"], "stall": ["endpoint", "way"], "twin": [],
+    },
+    ("bus", "Bus"): {
+        "__init__": [], "__eq__": ["other"], "__len__": [], "__repr__": [],
+        "plug": ["name", "plan", "hub=''", "port=1"], "pull": ["name"], "load": ["name", "endpoint", "data"],
+        "let": ["name", "endpoint", "many=1"], "stall": ["name", "endpoint", "way='in'"], "came": ["name", "endpoint"],
+        "number_of": ["name"], "plan_of": ["number"], "seen": [], "room": [], "send": ["number", "endpoint", "data"],
+        "fetch": ["number", "endpoint", "most=200"], "unstall": ["number", "endpoint", "way='in'"],
+        "call_off": ["transfer"], "told": ["transfer"], "reset": ["number"], "run": ["frames=1", "fates=None"],
+        "now": [], "journal": [], "spoken": [], "twin": [],
+    },
 }
 
 # L8.
@@ -87,9 +111,24 @@ class Interface(Case):
                 if arguments is None:
                     self.assertTrue(inspect.isclass(what), name)
                 else:
-                    found = inspect.signature(what).parameters.values()
-                    self.assertEqual(arguments, [one.name for one in found])
-                    self.assertLessEqual({one.kind for one in found}, {inspect.Parameter.POSITIONAL_OR_KEYWORD})
+                    self.takes(arguments, list(inspect.signature(what).parameters.values()))
+
+    def takes(self, arguments, found):
+        """Arguments with their defaults, each of which may be handed in by its name."""
+        self.assertEqual(arguments, [str(one) for one in found])
+        self.assertLessEqual({one.kind for one in found}, {inspect.Parameter.POSITIONAL_OR_KEYWORD})
+
+    def test_methods(self):
+        for (module, name), listed in METHODS.items():
+            there = getattr(importlib.import_module("plugtree." + module), name)
+            for method, arguments in listed.items():
+                # In the class itself.
+                what = vars(there)[method]
+                self.takes(["self"] + arguments, list(inspect.signature(what).parameters.values()))
+
+    def test_fields(self):
+        thing = importlib.import_module("plugtree.things").Thing((0, 0, 0, ()))
+        self.assertLessEqual({"number", "level"}, set(vars(thing)))
 
     def test_each_is_defined_in_its_file(self):
         for module, listed in INTERFACE.items():
@@ -165,6 +204,50 @@ class Rules(Case):
                         self.assertIsInstance(node.ctx, ast.Load, file)
                     if isinstance(node, ast.arg):
                         self.assertNotIn(name, theirs, file)
+
+    def test_names_of_methods_and_attributes(self):
+        """L18, L26: nothing is both a method and an attribute, and none has a name that plain values have."""
+        methods, attributes = set(), set()
+        for file in FILES:
+            for node in ast.walk(tree_of(file)):
+                if isinstance(node, ast.ClassDef):
+                    names = [one.name for one in node.body if isinstance(one, ast.FunctionDef)]
+                    self.assertEqual(len(set(names)), len(names), node.name)
+                    methods |= {name for name in names if not name.startswith("__")}
+                if isinstance(node, ast.Attribute) and isinstance(node.ctx, ast.Store):
+                    attributes.add(node.attr)
+        self.assertEqual(set(), methods & attributes)
+        for plain in (str, int, bytes, list, dict, set, tuple):
+            self.assertEqual(set(), (methods | attributes) & set(dir(plain)))
+
+    def test_no_name_is_bound_anew(self):
+        """L15: no variable or parameter has the name of a class or an import of its file."""
+        for file in FILES:
+            tree = tree_of(file)
+            theirs = {node.name for node in tree.body if isinstance(node, (ast.ClassDef, ast.FunctionDef))}
+            theirs |= {one.name for node in tree.body if isinstance(node, ast.ImportFrom) for one in node.names}
+            for node in ast.walk(tree):
+                if isinstance(node, ast.arg):
+                    self.assertNotIn(node.arg, theirs, file)
+                if isinstance(node, ast.Name) and isinstance(node.ctx, ast.Store):
+                    self.assertNotIn(node.id, theirs, file)
+
+    def test_no_two_files_import_from_each_other(self):
+        """L16."""
+        left = {file.stem: {node.module.split(".")[1] for node in tree_of(file).body
+                            if isinstance(node, ast.ImportFrom) and node.module.startswith("plugtree.")}
+                for file in FILES}
+        while left:
+            free = [name for name in left if not left[name] & set(left)]
+            self.assertTrue(free, left)
+            for name in free:
+                del left[name]
+
+    def test_no_generators(self):
+        """L7, where a class has its own ==: any, all, min, max, sum and sorted take no generator."""
+        for file in FILES:
+            for node in ast.walk(tree_of(file)):
+                self.assertNotIsInstance(node, (ast.GeneratorExp, ast.Yield, ast.YieldFrom, ast.Lambda), file)
 
     def test_strings_and_words(self):
         for file in FILES:
