@@ -28,10 +28,8 @@ class Ask:
         self.result = ""
 
     def begin_anew(self):
-        """Begin with the request itself again, as is needed where another one may have come between."""
+        """Make a request that asks for no bytes again, as is needed where another one may have come between."""
         self.stage = "setup"
-        self.mark = 1
-        self.got = ()
 
     def pursue(self, wire):
         """Ask till it is answered, or fails, or the frame has no more room."""

@@ -28,9 +28,7 @@ class Carrier:
             self.pipes[(number, endpoint, way)] = Pipe((number, endpoint, way), size, every, phase)
 
     def drop_thing(self, number, cause):
-        """Forget a thing; its transfers fail by a cause."""
-        if number not in self.plans:
-            return
+        """Forget a thing that was ready; its transfers fail by a cause."""
         del self.plans[number]
         for place in list(self.pipes):
             if place[0] == number:

@@ -6,7 +6,7 @@ from plugtree.errors import BadPlan, NoRoom, NoThing
 from plugtree.plans import read_plan
 from plugtree.ports import ASKING, DEAD, EMPTY, FIRST, NUMBERING, READY, REFUSED, RESET, SEEN, SETTING, SHUTTING, Ports
 from plugtree.room import bare_table, let_in, with_end
-from plugtree.tree import MOST_PORTS, OPENING, ROOT
+from plugtree.tree import MOST_PORTS, ROOT
 
 MOST_TRIES = 3
 # Since when a port is to be shut off that shall be so in the next frame.
@@ -119,12 +119,16 @@ class Host:
         """Go on with the port that is set up, or begin with one."""
         if self.current == ():
             self.pick()
-        if self.current == ():
+        elif self.step is None:
+            self.begin_first()
             return
-        port = self.ports.port_at(self.current)
         if self.step is not None:
-            self.go_on(port)
-        elif port.state == RESET and self.wire.frame + 1 >= port.reset_at + OPENING:
+            self.go_on(self.ports.port_at(self.current))
+
+    def begin_first(self):
+        """What was reset in the frame ahead is heard from the next one on: its device row is asked for then."""
+        port = self.ports.port_at(self.current)
+        if port.state == RESET:
             port.state = FIRST
             self.step = Ask(0, ("device",))
 
@@ -140,7 +144,6 @@ class Host:
         port.loose = True
         if hub == 0:
             self.wire.tree.reset_port(ROOT, number, self.wire.frame)
-            port.reset_at = self.wire.frame
         else:
             self.step = Ask(hub, ("reset", number))
 
@@ -161,16 +164,14 @@ class Host:
 
     def end_step(self, port, got):
         """A step of the port that is set up is done."""
-        if port.state == RESET:
-            port.reset_at = self.wire.frame
-        elif port.state == FIRST:
+        if port.state == FIRST:
             port.device = got
         elif port.state == NUMBERING:
             port.state = ASKING
             self.step = Ask(port.number, ("settings",))
         elif port.state == ASKING:
             self.set_apart(port, got)
-        else:
+        elif port.state == SETTING:
             self.make_ready(port)
 
     def give_number(self):
@@ -178,7 +179,7 @@ class Host:
         if self.current == ():
             return
         port = self.ports.port_at(self.current)
-        if port.state != FIRST or port.device == () or self.ports.is_any_loose():
+        if port.state != FIRST or self.step is not None or self.ports.is_any_loose():
             return
         number = self.ports.least_free()
         if number == 0:

@@ -31,8 +31,7 @@ class Port:
         # What the state is to be behind shutting, and the frame in which that began.
         self.goal = SEEN
         self.since = -1
-        # The frame of its reset, or -1, and what the thing told.
-        self.reset_at = -1
+        # What the thing there told, and the phases of its timed endpoints.
         self.device = ()
         self.plan = ()
         self.phases = []
@@ -40,7 +39,6 @@ class Port:
     def forget(self):
         """Know nothing of what hangs there, but how often it was tried."""
         self.number = 0
-        self.reset_at = -1
         self.device = ()
         self.plan = ()
         self.phases = []
@@ -66,7 +64,6 @@ class Port:
         other.loose = self.loose
         other.goal = self.goal
         other.since = self.since
-        other.reset_at = self.reset_at
         other.device = self.device
         other.plan = self.plan
         other.phases = list(self.phases)

@@ -102,10 +102,10 @@ class Tree:
         self.need_thing(name)
         spot = self.spots[name]
         self.hub_thing(spot.hub).turn_port(spot.port)
-        names = self.names_from(name)
-        for one in names:
+        gone = self.names_from(name)
+        for one in gone:
             self.drop(one)
-        return names
+        return gone
 
     def drop(self, name):
         """Forget a thing and where it hung."""

@@ -71,25 +71,32 @@ def ready_bus(*plans):
     return bus
 
 
+def crowded_bus(many=4):
+    """A bus whose frames are all full of timed turns, for some frames a message, with a hub; the number of c.
+
+    The thing c has bulk endpoints 3 and 4, for which there is no room then: 144 are left for a look (63) and 81 more.
+    """
+    bus = Bus()
+    bus.plug("hub", HUB[:3] + (((1, "in", "bulk", 8, 0),),))
+    eight = tuple((number, way, "timed", 64, 1) for number in range(1, 5) for way in ("in", "out"))
+    bus.plug("a", (1, 1, 0, eight), "", 2)
+    bus.plug("b", (1, 1, 0, eight), "", 3)
+    timed = ((1, "out", "timed", 64, 1), (2, "out", "timed", 28, 1))
+    bus.plug("c", (1, 1, 0, timed + ((3, "out", "bulk", 8, 0), (4, "out", "bulk", 8, 0))), "", 4)
+    run_till_ready(bus, ("hub", "a", "b", "c"))
+    for name in "abc":
+        number = bus.number_of(name)
+        for endpoint, way, kind, _, _ in bus.plan_of(number)[3]:
+            for _ in range(many if kind == "timed" else 0):
+                if way == "in":
+                    bus.load(name, endpoint, (1,) * 200)
+                    bus.fetch(number, endpoint)
+                else:
+                    bus.let(name, endpoint, 8 * many)
+                    bus.send(number, endpoint, (1,) * 200)
+    return bus, bus.number_of("c")
+
+
 def rows_since(bus, many):
     """The journal's rows behind the first so many, without the frames' beginnings and what hubs are asked for."""
     return [row for row in bus.journal()[many:] if row[2][0] != "frame"]
-
-
-def tokens_by_frame(bus, since):
-    """For each frame the tokens, as (word, number, endpoint), of the journal's rows from one on."""
-    found = {}
-    for frame, _, packet, _ in bus.journal()[since:]:
-        found.setdefault(frame, [])
-        if packet[0] in ("out", "in", "setup"):
-            found[frame].append(packet)
-    return found
-
-
-def refused(bus, call, kind, *args, **more):
-    """Whether a call is refused, by just this error."""
-    try:
-        call(*args, **more)
-    except Exception as error:
-        return type(error) is kind
-    return False

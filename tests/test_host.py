@@ -182,6 +182,28 @@ class Tries(HostCase):
         watched.plug("b", FOUR)
         self.assertEqual(ORDER[1:], self.history(watched)[1:])
 
+    def test_tries_begin_anew_where_it_turned_or_is_reset(self):
+        watched = self.watched(FOUR)
+        watched.run(1, [1] * 6)
+        self.run_till(watched, "ready")
+        watched.reset("a")
+        watched.run(1, [1] * 6)
+        self.run_till(watched, "ready")
+        watched.pull("a")
+        watched.plug("a", FOUR)
+        watched.run(1, [1] * 6)
+        self.run_till(watched, "ready")
+        watched.pull("a")
+        watched.plug("a", FOUR)
+        watched.run(1, [1] * 9)
+        self.run_till(watched, "dead")
+
+    def test_two_lost_turns_running_again_and_again(self):
+        for fate in (1, 2):
+            watched = self.watched(FOUR)
+            watched.run(1, [fate, fate, 0] * 17)
+            self.assertEqual(ORDER[1:], self.history(watched))
+
     def test_shut_off_and_tried_once_more(self):
         watched = self.watched(FOUR)
         watched.run(1, [1] * 3)

@@ -383,6 +383,38 @@ class Shut(HubCase):
         watched.settle()
         self.assertEqual([2, 3, 4], [watched.bus.number_of(name) for name in "cba"])
 
+    def test_one_that_surely_is_shut_off_holds_nobody_up(self):
+        """Neither one that was never reset, nor one that was shut off, or empty, since."""
+        for before in ("", "ready", "dead"):
+            watched = self.with_hub()
+            if before != "":
+                watched.plug("a", FOUR, "hub", 1)
+                watched.settle()
+                if before == "dead":
+                    watched.reset("a")
+                    for _ in range(3):
+                        self.run_till(watched, "first", (1, 1))
+                        watched.run(1, [0, 0, 0, 1, 1, 1])
+                    self.run_till(watched, "dead", (1, 1))
+                watched.pull("a")
+                if before == "ready":
+                    watched.settle()
+            watched.plug("a", FOUR, "hub", 1)
+            self.run_till(watched, "shutting", (1, 1))
+            watched.plug("x", NO_ENDS, "", 4)
+            for _ in range(30):
+                if watched.bus.number_of("x"):
+                    break
+                # Whoever is set up has its turns first.
+                state = states(watched.bus)[(0, 4)]
+                turns = {"first": 5, "numbering": 2, "asking": 5, "setting": 2}.get(state, 0)
+                watched.run(1, [0] * (3 + turns) + [1] * 3)
+                self.assertEqual("shutting", states(watched.bus)[(1, 1)])
+                watched.bus.wire.fates.clear()
+            self.assertEqual(2, watched.bus.number_of("x"), before)
+            watched.settle()
+            self.assertEqual(3, watched.bus.number_of("a"))
+
     def test_the_same_room_again_and_again(self):
         watched = self.with_hub(GREEDY, (1, 1, 0, FULL_TIMED[:4]))
         watched.settle()

@@ -3,10 +3,10 @@
 import itertools
 
 from plugtree.bus import Bus
-from plugtree.errors import Halted
+from plugtree.errors import Halted, NoEnd
 from plugtree.halves import cut
 from tests.base import Case
-from tests.built import FOUR, HUB, ready_bus, run_till_ready, states
+from tests.built import FOUR, HUB, crowded_bus, ready_bus, run_till_ready, states
 
 BULK_SIZES = (8, 16, 32, 64)
 TIMED_SIZES = (1, 7, 8, 63, 64)
@@ -217,6 +217,16 @@ class Causes(Case):
                 self.ends(bus, found, ("failed", "lost"), ("failed", "halted"), ("failed", "halted"))
                 self.is_halted_till_cleared(bus, way, number)
 
+    def test_lost_again_behind_a_clear(self):
+        for way in ("in", "out"):
+            bus, number, found = self.waiting(way, False)
+            for _ in range(3):
+                bus.run(1, [1] * 3)
+                self.assertEqual(("failed", "lost"), bus.told(found[0])[:2])
+                bus.unstall(number, 1, way)
+                bus.run()
+                found = [bus.send(number, 1, (1,)) if way == "out" else bus.fetch(number, 1)]
+
     def test_lost_by_answers(self):
         bus, number, found = self.waiting("out", False)
         bus.let("a", 1, 1)
@@ -330,6 +340,40 @@ class Causes(Case):
         bus.run(20)
         self.assertEqual(kept, [bus.told(one) for one in (done, failed)])
         self.assertEqual([False, False], [bus.call_off(one) for one in (done, failed)])
+
+
+class NumbersGivenAgain(Case):
+    def test_pipes_are_those_of_the_thing_that_has_the_number(self):
+        bus = ready_bus(FOUR)
+        bus.unstall(1, 1, "out")
+        bus.run(2)
+        bus.pull("a")
+        bus.plug("b", (1, 1, 0, ((1, "out", "bulk", 64, 0),)), "", 2)
+        run_till_ready(bus, "b")
+        self.assertEqual(1, bus.number_of("b"))
+        for call in (
+            lambda: bus.fetch(1, 1), lambda: bus.fetch(1, 2), lambda: bus.send(1, 2, ()), lambda: bus.unstall(1, 2),
+        ):
+            self.refuses(NoEnd, call)
+        bus.let("b", 1, 2)
+        transfer = bus.send(1, 1, message(60))
+        bus.run()
+        self.assertEqual(("done", "", (), 1), bus.told(transfer))
+
+    def test_a_halted_pipe_is_not_halted_for_the_next_one(self):
+        bus = ready_bus(FOUR)
+        bus.stall("a", 1)
+        bus.fetch(1, 1)
+        bus.run()
+        self.refuses(Halted, bus.fetch, 1, 1)
+        for do in (lambda: bus.reset(1), lambda: (bus.pull("a"), bus.plug("a", FOUR))):
+            do()
+            bus.run()
+            run_till_ready(bus, "a")
+            bus.load("a", 1, (1,))
+            transfer = bus.fetch(1, 1)
+            bus.run()
+            self.assertEqual(("done", "", (1,)), bus.told(transfer)[:3])
 
 
 class OtherPipes(Case):
@@ -472,29 +516,3 @@ class Clears(Case):
         bus.let("c", 3)
         bus.run(20)
         self.assertEqual("done", bus.told(behind)[0])
-
-
-def crowded_bus():
-    """A bus whose frames are all full of timed turns, for ten frames and more, with a hub; the number of c.
-
-    The thing c has bulk endpoints 3 and 4, for which there is no room then.
-    """
-    bus = Bus()
-    bus.plug("hub", HUB)
-    many = tuple((number, way, "timed", 64, 1) for number in range(1, 5) for way in ("in", "out"))
-    bus.plug("a", (1, 1, 0, many), "", 2)
-    bus.plug("b", (1, 1, 0, many), "", 3)
-    timed = ((1, "out", "timed", 64, 1), (2, "out", "timed", 28, 1))
-    bus.plug("c", (1, 1, 0, timed + ((3, "out", "bulk", 8, 0), (4, "out", "bulk", 8, 0))), "", 4)
-    run_till_ready(bus, ("hub", "a", "b", "c"))
-    for name in "abc":
-        number = bus.number_of(name)
-        for endpoint, way, kind, _, _ in bus.plan_of(number)[3]:
-            for _ in range(4 if kind == "timed" else 0):
-                if way == "in":
-                    bus.load(name, endpoint, (1,) * 200)
-                    bus.fetch(number, endpoint)
-                else:
-                    bus.let(name, endpoint, 20)
-                    bus.send(number, endpoint, (1,) * 200)
-    return bus, bus.number_of("c")

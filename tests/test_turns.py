@@ -6,8 +6,7 @@ import random
 from plugtree.bus import Bus
 from plugtree.journal import first_wrong
 from tests.base import Case
-from tests.built import HUB, ready_bus, run_till_ready
-from tests.test_transfers import crowded_bus
+from tests.built import HUB, crowded_bus, ready_bus, run_till_ready
 
 PERIODS = (1, 2, 4, 8, 16, 32)
 # Timed ones of all periods, and bulk ones.
