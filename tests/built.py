@@ -98,5 +98,5 @@ def crowded_bus(many=4):
 
 
 def rows_since(bus, many):
-    """The journal's rows behind the first so many, without the frames' beginnings and what hubs are asked for."""
+    """The rows of the journal behind the first so many, without those of frames that begin."""
     return [row for row in bus.journal()[many:] if row[2][0] != "frame"]

@@ -6,6 +6,7 @@ from plugtree.bus import Bus
 from plugtree.errors import BusError, Halted, Missing
 from tests.base import Case
 from tests.built import states
+from tests.test_hubs import looks
 from tests.watch import FRAMES_FOR_A_PORT, Watched, picture
 
 BULK_SIZES = (8, 16, 32, 64)
@@ -138,6 +139,7 @@ class UnderAllFates(Case):
                 watched = Drawn(self, seed).run()
                 watched.look_at_journal()
                 watched.settle()
+                self.looks_at_each_port(watched)
                 watched.look_at_journal()
                 ended |= {told[:2] for told in watched.ended.values()}
                 found |= set(states(watched.bus).values())
@@ -145,6 +147,13 @@ class UnderAllFates(Case):
         self.assertEqual({("done", "")} | {("failed", cause) for cause in (
             "lost", "stalled", "too much", "called off", "halted", "gone", "reset")}, ended)
         self.assertEqual({"empty", "ready", "refused", "dead"}, found)
+
+    def looks_at_each_port(self, watched):
+        """In as many calm frames as there are ports of hubs each of them is looked at."""
+        ports = {row[:2] for row in watched.bus.seen() if row[0] != 0}
+        since = len(watched.bus)
+        watched.run(len(ports))
+        self.assertEqual(ports, {place for _, place in looks(watched.bus, since)})
 
     def test_a_port_takes_at_most_twelve_frames(self):
         """Behind all fates, once the host has come to a port."""

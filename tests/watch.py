@@ -210,6 +210,7 @@ class Watched:
     def look_at_came(self, name, life):
         """What came is all that was acknowledged, and behind a transfer that isn't done perhaps one piece more."""
         for endpoint, sent in life.sent.items():
+            came = self.bus.came(name, endpoint)
             may_be = {()}
             for one in sent:
                 state, _, _, many = self.bus.told(one.number)
@@ -218,7 +219,8 @@ class Watched:
                 whole = joined(one.pieces[:many])
                 more = () if state == "done" else joined(one.pieces[many:many + 1])
                 may_be = {data + whole for data in may_be} | {data + whole + more for data in may_be}
-            self.test.assertIn(self.bus.came(name, endpoint), may_be)
+                may_be = {data for data in may_be if came[:len(data)] == data}
+            self.test.assertIn(came, may_be)
 
     # What is looked at now and then.
 
