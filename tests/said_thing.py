@@ -8,6 +8,9 @@ NUMBER, SET, CLEAR, RESET, SHUT = (0, 5), (0, 9), (2, 1, 0, 0), (35, 3, 4, 0), (
 class SaidThing:
     def __init__(self, plan):
         self.plan = plan
+        self.turned = dict.fromkeys(range(1, plan[2] + 1), 0)
+        # What is to be done at a port, for a tree that has one.
+        self.at_port = lambda word, port: None
         self.restart()
 
     def restart(self):
@@ -55,7 +58,8 @@ class SaidThing:
         elif data == (128, 6, 0, 2, 0, 0, 255, 0):
             self.give(said_settings(self.plan))
         elif len(data) == 8 and data[:4] == (163, 0, 0, 0) and data[4] in ports and data[5:] == (0, 2, 0):
-            self.give((0, 0))
+            turned = self.turned[data[4]]
+            self.give((turned % 2, turned % 256))
         elif len(data) == 8 and data[:2] == NUMBER and data[2] < 16 and data[3:] == (0,) * 5:
             self.wish = lambda: None
             self.then = data[2]
@@ -66,7 +70,7 @@ class SaidThing:
             self.wish = lambda: self.clear(data[4])
             self.then = None
         elif len(data) == 8 and data[:4] in (RESET, SHUT) and data[4] in ports and data[5:] == (0,) * 3:
-            self.wish = lambda: None
+            self.wish = lambda: self.at_port("reset" if data[:4] == RESET else "shut", data[4])
             self.then = None
         else:
             self.stalls = True

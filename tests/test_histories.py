@@ -3,7 +3,7 @@
 import random
 
 from plugtree.bus import Bus
-from plugtree.errors import BusError, Halted, Missing
+from plugtree.errors import BusError, Halted, Missing, NoEnd
 from tests.base import Case
 from tests.built import states
 from tests.test_hubs import looks
@@ -19,7 +19,7 @@ class Drawn:
 
     def __init__(self, test, seed):
         self.drawn = random.Random(seed)
-        self.watched = Watched(test)
+        self.watched = Watched(test, replay=True)
         self.bad = self.drawn.choice((0, 0.05, 0.2, 0.5, 0.9))
         # Some have much timed load.
         self.timed = self.drawn.choice((0.1, 0.5, 1))
@@ -73,11 +73,11 @@ class Drawn:
         if what < 0.06:
             watched.unstall(name, number, way)
         elif what < 0.1:
-            watched.bus.stall(name, number, way)
+            watched.stall(name, number, way)
         elif what < 0.16:
             watched.bus.call_off(drawn.choice(list(watched.transfers)))
         elif what < 0.5 and way == "out":
-            watched.bus.let(name, number, drawn.choice((0, 1, 2, 30)))
+            watched.let(name, number, drawn.choice((0, 1, 2, 30)))
         elif what < 0.5:
             watched.load(name, number, self.message(size))
         else:
@@ -139,6 +139,7 @@ class UnderAllFates(Case):
                 watched = Drawn(self, seed).run()
                 watched.look_at_journal()
                 watched.settle()
+                self.halves_as_said(watched)
                 self.looks_at_each_port(watched)
                 watched.look_at_journal()
                 ended |= {told[:2] for told in watched.ended.values()}
@@ -147,6 +148,16 @@ class UnderAllFates(Case):
         self.assertEqual({("done", "")} | {("failed", cause) for cause in (
             "lost", "stalled", "too much", "called off", "halted", "gone", "reset")}, ended)
         self.assertEqual({"empty", "ready", "refused", "dead"}, found)
+
+    def halves_as_said(self, watched):
+        """What came to things is what the second writing says."""
+        for name, plan in watched.plans.items():
+            for number, way, _, _, _ in plan[3]:
+                half = watched.said.things[name].half(number, way)
+                if half is None:
+                    self.refuses(NoEnd, watched.bus.came, name, number)
+                elif way == "out":
+                    self.assertEqual(half[3], watched.bus.came(name, number))
 
     def looks_at_each_port(self, watched):
         """In as many calm frames as there are ports of hubs each of them is looked at."""

@@ -7,6 +7,7 @@ from plugtree.halves import cut
 from plugtree.journal import first_wrong
 from plugtree.packets import read_packet
 from plugtree.room import bare_table, with_end
+from tests.said_tree import SaidTree
 
 STATES = (
     "empty", "seen", "reset", "first", "numbering", "asking", "setting", "ready", "shutting", "refused", "dead",
@@ -54,9 +55,11 @@ class Life:
 class Watched:
     """A bus, driven by names, and a test that fails where a promise is broken."""
 
-    def __init__(self, test):
+    def __init__(self, test, replay=False):
         self.test = test
         self.bus = Bus()
+        # Where it is asked for, all that things say is held against a second writing of them and of the tree.
+        self.said = SaidTree(test) if replay else None
         self.plans = {}
         self.lives = {}
         # Number of a transfer: (life, endpoint, way, word).
@@ -68,14 +71,30 @@ class Watched:
     def plug(self, name, plan, hub="", port=1):
         self.bus.plug(name, plan, hub, port)
         self.plans[name] = plan
+        if self.said:
+            self.said.plug(name, plan, hub, port)
 
     def pull(self, name):
         for one in self.bus.pull(name):
             del self.plans[one]
             self.lives.pop(one, None)
+        if self.said:
+            self.said.pull(name)
+
+    def let(self, name, endpoint, many):
+        self.bus.let(name, endpoint, many)
+        if self.said:
+            self.said.things[name].let(endpoint, many)
+
+    def stall(self, name, endpoint, way):
+        self.bus.stall(name, endpoint, way)
+        if self.said:
+            self.said.things[name].stall(endpoint, way)
 
     def load(self, name, endpoint, data):
         self.bus.load(name, endpoint, data)
+        if self.said:
+            self.said.things[name].load(endpoint, data)
         if name in self.lives:
             self.lives[name].loaded[endpoint].append(data)
 
@@ -106,7 +125,10 @@ class Watched:
         """Run frame by frame, and look at all behind each."""
         for k in range(frames):
             ahead = self.endings()
+            many, rows = len(self.bus), self.bus.seen()
             self.bus.run(1, fates if k == 0 else None)
+            if self.said:
+                self.said.run_frame(self.bus.journal()[many:], rows, self.bus.seen())
             self.look(ahead)
 
     # What is looked at.
@@ -176,7 +198,9 @@ class Watched:
         test.assertLessEqual(len(busy), 1)
 
     def hearers(self, number):
-        """Who hears a number in the next frame, by the tree itself."""
+        """Who hears a number in the next frame."""
+        if self.said:
+            return self.said.hearers(number, self.bus.now())
         tree = self.bus.tree
         return [name for name in self.plans
                 if tree.spots[name].thing.number == number and tree.is_heard(name, self.bus.now())]
